@@ -1,0 +1,1 @@
+"""Crossbrace: floors of square fields, held by braces and ropes."""
