@@ -88,6 +88,10 @@ def corners_at(floor, field):
     return (lower, lower + 1, upper, upper + 1)
 
 
+def corner_spot(floor, corner):
+    return (corner % (floor[0] + 1), corner // (floor[0] + 1))
+
+
 def corners(floor):
     found = []
     for field in floor[2]:

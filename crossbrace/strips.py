@@ -40,10 +40,17 @@ def strips(floor):
     return rows + columns
 
 
+def crossings(floor):
+    # Rows are numbered ahead of columns, so the row comes first of the two.
+    found = {}
+    for number, strip in enumerate(strips(floor)):
+        for field in strip[1]:
+            found[field] = found.get(field, ()) + (number,)
+    return found
+
+
 def crossing(floor, field):
-    # Rows are numbered ahead of columns, so the first strip of the two is the row.
-    through = [number for number, strip in enumerate(strips(floor)) if field in strip[1]]
-    return (through[0], through[1])
+    return crossings(floor)[field]
 
 
 def strip_of(floor, side):

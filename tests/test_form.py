@@ -24,6 +24,7 @@ UNUSED_WORDS = """type typing typing_extensions enum Enum IntEnum StrEnum Flag I
 FILE_NAMES_OUT = "test tests testing site conftest sitecustomize usercustomize".split() + UNUSED_WORDS + dir(builtins)
 WALKED = "zip enumerate reversed range".split()
 WALKED_METHODS = "items keys values".split()
+CHANGING = "append clear extend insert pop remove reverse setdefault update".split()
 WALKERS = "list tuple dict sorted sum any all enumerate zip min max join".split()
 KEYWORDS = {"sorted": ["key", "reverse"], "min": ["key", "default"], "max": ["key", "default"],
             "sum": ["start"], "enumerate": ["start"], "zip": ["strict"]}
@@ -69,6 +70,8 @@ class Walk:
                 self.above[child] = node
         self.methods = [part.name for node in self.tree.body if isinstance(node, ast.ClassDef)
                         for part in node.body if isinstance(part, ast.FunctionDef)]
+        self.taken = [alias.name for node in self.tree.body if isinstance(node, ast.ImportFrom) for alias in node.names]
+        self.taken += [node.name for node in self.tree.body if isinstance(node, ast.ClassDef)]
 
     def fault(self, rule, node):
         self.found.append((rule, getattr(node, "lineno", 0)))
@@ -154,10 +157,14 @@ class Walk:
 
     def look_arg(self, node):
         self.check_name(node.arg, node)
+        if node.arg in self.taken:
+            self.fault("L15", node)
 
     def look_name(self, node):
         if isinstance(node.ctx, ast.Store):
             self.check_name(node.id, node)
+            if node.id in self.taken:
+                self.fault("L15", node)
         elif node.id in UNUSED_NAMES:
             self.fault("L17", node)
         elif node.id in dir(builtins) and node.id not in OWN_NAMES:
@@ -166,6 +173,19 @@ class Walk:
     def look_loop(self, node):
         if node.orelse:
             self.fault("L6", node)
+
+    def look_for(self, node):
+        walked = node.iter
+        while isinstance(walked, ast.Call) and (walked.args or isinstance(walked.func, ast.Attribute)):
+            if getattr(walked.func, "id", "") in ("list", "sorted", "range", "len"):
+                return
+            walked = walked.func.value if isinstance(walked.func, ast.Attribute) else walked.args[0]
+        text = ast.unparse(walked)
+        for part in ast.walk(ast.Module(node.body, [])):
+            changed = isinstance(part, ast.Attribute) and part.attr in CHANGING \
+                or isinstance(part, ast.Subscript) and isinstance(part.ctx, ast.Store)
+            if changed and ast.unparse(part.value) == text:
+                self.fault("L23", part)
 
     def look_assign(self, node):
         if len(node.targets) != 1:
@@ -263,6 +283,7 @@ class Walk:
 LOOKS = [
     (ast.ImportFrom, Walk.look_import), (ast.FunctionDef, Walk.look_def), (ast.ClassDef, Walk.look_class),
     (ast.arg, Walk.look_arg), (ast.Name, Walk.look_name), ((ast.For, ast.While), Walk.look_loop),
+    (ast.For, Walk.look_for),
     (ast.Assign, Walk.look_assign), (ast.Expr, Walk.look_single), (ast.Try, Walk.look_try),
     (ast.Raise, Walk.look_raise), (ast.Constant, Walk.look_constant), ((ast.BinOp, ast.AugAssign), Walk.look_sum),
     (ast.ListComp, Walk.look_comprehension), (ast.FormattedValue, Walk.look_shown),
@@ -286,10 +307,16 @@ FAULTY = [
     ("L10", "N = 1\n\n\ndef f():\n" + "    pass\n" * 41), ("L10", "N = '" + "a" * 120 + "'\n"), ("L10", "N = 1\n" * 401),
     ("L12", "def f(a):\n    return [0 for _ in a]\n"), ("L12", "def _f():\n    return 1\n"),
     ("L14", "N = '\u00e9'\n"), ("L15", "N = 1\nN = 2\n"), ("L15", "def f(min):\n    return min\n"),
+    ("L15", "from crossbrace.floors import sides\n\n\ndef f(sides):\n    return sides\n"),
+    ("L15", "from crossbrace.floors import sides\n\n\ndef f(a):\n    return [0 for sides in a]\n"),
+    ("L15", "class Desk:\n    pass\n\n\ndef f(a):\n    Desk = a\n    return a\n"),
     ("L17", "# the type of a thing\n"), ("L17", "def f(a):\n    return getattr(a, 'b')\n"),
     ("L19", "def f(a):\n    try:\n        return a[0]\n    except Exception:\n        return 0\n"),
     ("L19", "def f(a):\n    raise a\n"), ("L20", "def f(a):\n    return a is 1\n"),
     ("L22", "def f(a):\n    return int(a, base=2)\n"), ("L23", "def f(a):\n    b = zip(a, a)\n    return list(b)\n"),
+    ("L23", "def f(a):\n    for x in a:\n        a.append(x)\n"),
+    ("L23", "def f(a):\n    for k, x in enumerate(a):\n        a[k] = x\n"),
+    ("L23", "def f(a):\n    for k, x in a.items():\n        if x:\n            a.pop(k)\n"),
     ("L23", "def f(a):\n    return a.items()\n"), ("L24", "def f(a):\n    return set(a)\n"),
     ("L24", "def f(a):\n    return [x for x in set(a)]\n"), ("L25", "def f(a):\n    a.sort()\n"),
     ("L25", "def f(a):\n    return a.append\n"), ("L27", "def f(n):\n    return 2 ** n\n"), ("L27", "N = '%'\n"),

@@ -1,0 +1,101 @@
+"""What is handed in stays as it was, and what is told is the asker's own."""
+
+import copy
+import unittest
+
+from crossbrace import choices, floors, leans, spares, strips, ways
+from samples import FLOORS, plans, some_leans
+
+
+def calls_of_floors():
+    for floor in FLOORS:
+        field = floor[2][len(floor[2]) // 2]
+        side = floors.sides(floor)[-1]
+        yield floors.floor_of, (floor[0], floor[1], list(floor[2]))
+        yield floors.corners, (floor,)
+        yield floors.corners_at, (floor, field)
+        yield floors.sides, (floor,)
+        yield strips.strips, (floor,)
+        yield strips.crossing, (floor, field)
+        yield strips.strip_of, (floor, side)
+        for lean in some_leans(floor):
+            yield leans.leans, (lean,)
+            yield leans.speeds, (floor, lean)
+            yield leans.stretch, (floor, lean, floors.corners(floor)[0], floors.corners(floor)[-1])
+            yield leans.slack, (floor, lean, (field, "rising"))
+
+
+def calls_of_braces():
+    for floor, braces, ropes in plans(2):
+        lean = list(some_leans(floor))[-1]
+        yield leans.broken, (floor, braces, ropes, lean)
+        yield ways.judged, (floor, braces)
+        yield ways.pieces, (floor, braces)
+        yield ways.held, (floor, braces)
+        yield ways.lacking, (floor, braces)
+        yield ways.lean_at, (floor, braces, floor[2][0])
+        yield spares.loses, (floor, braces)
+        yield spares.stripped, (floor, braces)
+        for field in braces[:2]:
+            yield spares.weighed, (floor, braces, field)
+
+
+def calls_of_choices():
+    for floor in FLOORS:
+        prices = [(7 * field) % 5 - 2 for field in floor[2]]
+        choice = choices.cheapest(floor, [-price for price in prices])
+        yield choices.is_choice, (floor, choice)
+        yield choices.cheapest, (floor, prices)
+        yield choices.cheaper, (floor, prices, choice)
+        yield choices.exchanges, (floor, choice, choices.cheapest(floor, prices))
+        yield choices.exchanges, (floor, choice, choice)
+
+
+CALLS = [calls_of_floors, calls_of_braces, calls_of_choices]
+
+
+def lists_in(thing):
+    found = [thing] if isinstance(thing, list) else []
+    if isinstance(thing, (list, tuple)):
+        for part in thing:
+            found.extend(lists_in(part))
+    return found
+
+
+def spoil(thing):
+    for part in lists_in(thing):
+        part.reverse()
+        part.append("spoilt")
+        part.insert(0, -1)
+
+
+class Own(unittest.TestCase):
+    def check_own(self, function, given):
+        before = copy.deepcopy(given)
+        told = function(*given)
+        self.assertEqual(given, before)
+        kept = copy.deepcopy(told)
+        self.assertEqual(len({id(part) for part in lists_in(told)}), len(lists_in(told)))
+        spoil(told)
+        self.assertEqual(given, before)
+        again = function(*given)
+        self.assertEqual(again, kept)
+        spoil(given)
+        self.assertEqual(again, kept)
+        self.assertEqual(function(*before), kept)
+
+    def test_each_call(self):
+        for calls in CALLS:
+            for function, given in calls():
+                with self.subTest(function=function.__name__, given=given):
+                    self.check_own(function, copy.deepcopy(given))
+
+    def test_each_function_is_asked(self):
+        asked = {function.__name__ for calls in CALLS for function, given in calls()}
+        self.assertEqual(asked, set("""floor_of corners corners_at sides strips crossing strip_of leans speeds stretch
+            broken slack judged pieces held lean_at lacking weighed loses stripped is_choice cheapest cheaper
+            exchanges""".split()))
+
+
+if __name__ == "__main__":
+    unittest.main()
