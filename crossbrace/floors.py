@@ -109,6 +109,15 @@ def up_at(floor, field):
     return (("up", about[0]), ("up", about[1]))
 
 
+def side_ends(floor, side):
+    return (side[1], side[1] + 1) if side[0] == "across" else (side[1], side[1] + floor[0] + 1)
+
+
+def bar_ends(floor, field, word):
+    about = corners_at(floor, field)
+    return (about[0], about[3]) if word == "rising" else (about[1], about[2])
+
+
 def sides(floor):
     found = []
     for field in floor[2]:

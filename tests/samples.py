@@ -168,6 +168,26 @@ def parts(floor, braces):
     return sorted(sorted(group) for group in groups)
 
 
+def is_spare(floor, braces, field):
+    return len(parts(floor, [other for other in braces if other != field])) == len(parts(floor, braces))
+
+
+def leads(floor, braces, ropes):
+    """From each strip the strips that steps lead to, itself among them, put on until nothing comes to it."""
+    pairs = [pair for field in braces for pair in (crossing(floor, field), crossing(floor, field)[::-1])]
+    pairs += [crossing(floor, field)[::-1 if word == "rising" else 1] for field, word in ropes]
+    reached = [{number} for number in range(len(strips(floor)))]
+    grows = True
+    while grows:
+        grows = False
+        for start, end in pairs:
+            for group in reached:
+                if start in group and end not in group:
+                    group.add(end)
+                    grows = True
+    return reached
+
+
 def shears(floor, lean, field):
     row, column = crossing(floor, field)
     return lean[row] != lean[column]
@@ -224,3 +244,77 @@ class Checks(unittest.TestCase):
         self.assertLessEqual(set(fields), set(floor[2]))
         self.assertEqual(len(fields), len(strips(floor)) - 1)
         self.assertEqual(len(parts(floor, fields)), 1)
+
+    def check_breaks_nothing(self, floor, braces, ropes, lean):
+        self.check_lean(floor, lean)
+        self.assertEqual([field for field in braces if shears(floor, lean, field)], [])
+        for field, word in ropes:
+            row, column = crossing(floor, field)
+            if word == "rising":
+                self.assertLessEqual(lean[column] - lean[row], 0)
+            else:
+                self.assertLessEqual(lean[row] - lean[column], 0)
+
+    def check_run(self, floor, braces, ropes, run, start, end):
+        self.assertIs(type(run), list)
+        self.assertLess(len(run), len(strips(floor)))
+        here = start
+        for step in run:
+            self.assertIs(type(step), tuple)
+            field, word = step
+            row, column = crossing(floor, field)
+            if word == "brace":
+                self.assertIn(field, braces)
+                self.assertIn(here, (row, column))
+            else:
+                self.assertIn(step, ropes)
+                self.assertEqual(here, column if word == "rising" else row)
+            here = row + column - here
+        self.assertEqual(here, end)
+
+    def check_pulls(self, floor, pulls):
+        """The form of pulls, and that they are even on each strip."""
+        self.assertIs(type(pulls), list)
+        self.assertEqual(pulls, sorted(pulls))
+        self.assertEqual(len({pull[:2] for pull in pulls}), len(pulls))
+        for pull in pulls:
+            self.assertIs(type(pull), tuple)
+            self.assertIn(pull[0], floor[2])
+            self.assertIn(pull[1], ("rising", "falling"))
+            self.assertIs(type(pull[2]), int)
+        self.assertEqual(sums_on_strips(floor, pulls), [0] * len(strips(floor)))
+
+    def check_taut_pulls(self, floor, braces, ropes, pulls):
+        self.check_pulls(floor, pulls)
+        for field, word, number in pulls:
+            if field in braces:
+                self.assertEqual(word, "rising")
+            else:
+                self.assertIn((field, word), ropes)
+                self.assertGreater(number, 0)
+
+
+def sums_on_strips(floor, pulls):
+    total = [0] * len(strips(floor))
+    for field, word, number in pulls:
+        for strip in crossing(floor, field):
+            total[strip] += number if word == "rising" else -number
+    return total
+
+
+def pulled_corners(floor, pulls, forces):
+    """What pulls at each corner, in columns and rows, bar by bar and side by side."""
+    row = floor[0] + 1
+    total = {}
+    bars = []
+    for field, word, number in pulls:
+        x, y = field % floor[0], field // floor[0]
+        bars.append(((x, y), (x + 1, y + 1), number) if word == "rising" else ((x + 1, y), (x, y + 1), number))
+    for (word, corner), number in forces:
+        x, y = corner % row, corner // row
+        bars.append(((x, y), (x + 1, y) if word == "across" else (x, y + 1), number))
+    for one, other, number in bars:
+        for here, there in ((one, other), (other, one)):
+            dx, dy = total.get(here, (0, 0))
+            total[here] = (dx + number * (there[0] - here[0]), dy + number * (there[1] - here[1]))
+    return {y * row + x: pull for (x, y), pull in total.items()}

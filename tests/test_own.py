@@ -3,7 +3,7 @@
 import copy
 import unittest
 
-from crossbrace import choices, floors, leans, spares, strips, ways
+from crossbrace import choices, counts, floors, forces, leans, ropes, spares, strips, taut, ways
 from samples import FLOORS, plans, some_leans
 
 
@@ -26,9 +26,9 @@ def calls_of_floors():
 
 
 def calls_of_braces():
-    for floor, braces, ropes in plans(2):
+    for floor, braces, hanging in plans(2):
         lean = list(some_leans(floor))[-1]
-        yield leans.broken, (floor, braces, ropes, lean)
+        yield leans.broken, (floor, braces, hanging, lean)
         yield ways.judged, (floor, braces)
         yield ways.pieces, (floor, braces)
         yield ways.held, (floor, braces)
@@ -38,12 +38,33 @@ def calls_of_braces():
         yield spares.stripped, (floor, braces)
         for field in braces[:2]:
             yield spares.weighed, (floor, braces, field)
+            yield forces.pulls_at, (floor, braces, field)
+
+
+def calls_of_ropes():
+    for wide, high in ((1, 1), (2, 3), (6, 6), (6, 2)):
+        yield ropes.rope_plan, (wide, high)
+    for floor, braces, hanging in plans(3):
+        yield ropes.hung, (floor, braces, hanging)
+        yield taut.all_taut, (floor, braces, hanging)
+        for rope in hanging[:2]:
+            yield taut.tautness, (floor, braces, hanging, rope)
+
+
+def calls_of_forces():
+    for floor in FLOORS:
+        both = [(field, word, field - 9) for field in floor[2] for word in ("falling", "rising")]
+        for pulls in ([], both, both[1:]):
+            yield forces.at_rest, (floor, pulls)
+            yield forces.restless, (floor, pulls, [(side, 1) for side in floors.sides(floor)])
+        yield forces.restless, (floor, both, forces.at_rest(floor, both)[1])
 
 
 def calls_of_choices():
     for floor in FLOORS:
         prices = [(7 * field) % 5 - 2 for field in floor[2]]
         choice = choices.cheapest(floor, [-price for price in prices])
+        yield counts.how_many, (floor,)
         yield choices.is_choice, (floor, choice)
         yield choices.cheapest, (floor, prices)
         yield choices.cheaper, (floor, prices, choice)
@@ -51,7 +72,7 @@ def calls_of_choices():
         yield choices.exchanges, (floor, choice, choice)
 
 
-CALLS = [calls_of_floors, calls_of_braces, calls_of_choices]
+CALLS = [calls_of_floors, calls_of_braces, calls_of_choices, calls_of_ropes, calls_of_forces]
 
 
 def lists_in(thing):
@@ -94,7 +115,7 @@ class Own(unittest.TestCase):
         asked = {function.__name__ for calls in CALLS for function, given in calls()}
         self.assertEqual(asked, set("""floor_of corners corners_at sides strips crossing strip_of leans speeds stretch
             broken slack judged pieces held lean_at lacking weighed loses stripped is_choice cheapest cheaper
-            exchanges""".split()))
+            exchanges how_many restless at_rest pulls_at hung rope_plan tautness all_taut""".split()))
 
 
 if __name__ == "__main__":

@@ -2,17 +2,13 @@ import unittest
 
 from crossbrace.floors import floor_of
 from crossbrace.spares import loses, stripped, weighed
-from samples import FLOORS, Checks, parts, picks
+from samples import FLOORS, Checks, is_spare, parts, picks
 
 
 def braced_floors():
     for place, floor in enumerate(FLOORS):
         for braces in picks(floor[2], 6, 100 + place):
             yield floor, braces
-
-
-def is_spare(floor, braces, field):
-    return len(parts(floor, [other for other in braces if other != field])) == len(parts(floor, braces))
 
 
 class Weighed(Checks):
