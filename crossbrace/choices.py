@@ -38,7 +38,7 @@ def exchanges(floor, one, other):
     found = []
     for out in [field for field in one if field not in other]:
         left = without(now, out)
-        come = joining(floor, left, [field for field in other if field not in left])[0]
+        come = joining(floor, left, other)[0]
         found.append((out, come))
         now = left + [come]
     return found

@@ -116,8 +116,8 @@ def grown(wide, high, how_many, seed):
 
 
 FLOORS = [floor_drawn(shape) for shape in SHAPES] + [
-    grown(3, 3, 6, 1), grown(4, 3, 9, 2), grown(5, 5, 14, 3), grown(6, 6, 12, 4), grown(6, 6, 20, 5), grown(6, 6, 28, 6),
-    grown(6, 4, 17, 7), grown(2, 6, 9, 8)]
+    grown(3, 3, 6, 1), grown(4, 3, 9, 2), grown(5, 5, 14, 3), grown(6, 6, 12, 4), grown(6, 6, 20, 5),
+    grown(6, 6, 28, 6), grown(6, 4, 17, 7), grown(2, 6, 9, 8)]
 SMALL_FLOORS = [floor for floor in FLOORS if len(floor[2]) <= 9]
 
 

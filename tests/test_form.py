@@ -29,6 +29,13 @@ WALKERS = "list tuple dict sorted sum any all enumerate zip min max join".split(
 KEYWORDS = {"sorted": ["key", "reverse"], "min": ["key", "default"], "max": ["key", "default"],
             "sum": ["start"], "enumerate": ["start"], "zip": ["strict"]}
 
+# Names that Python's own values have, and those of them that a class may bear all the same.
+VALUE_NAMES = [name for kind in (str, int, list, dict, set, frozenset, tuple, bytes) for name in dir(kind)]
+OWN_METHODS = METHODS + ["add", "discard"]
+OWN_VALUES = "count index title find get join lower upper split strip copy add".split()
+NO_VALUES = """items keys values pop update append clear extend insert remove reverse setdefault sort args encode
+    format""".split()
+
 STATEMENTS = (ast.Assign, ast.AugAssign, ast.AnnAssign, ast.If, ast.While, ast.For, ast.Return, ast.Break, ast.Continue,
               ast.Pass, ast.Raise, ast.Try, ast.Expr, ast.FunctionDef, ast.ClassDef, ast.ImportFrom)
 EXPRESSIONS = (ast.Constant, ast.List, ast.Tuple, ast.Dict, ast.Set, ast.BinOp, ast.UnaryOp, ast.BoolOp, ast.Compare,
@@ -144,8 +151,27 @@ class Walk:
         if node.end_lineno - node.lineno + 1 > 40:
             self.fault("L10", node)
         is_method = isinstance(self.above[node], ast.ClassDef)
-        if not (is_method and node.name in DUNDER_METHODS):
+        if is_method:
+            self.look_method(node)
+        else:
             self.check_name(node.name, node)
+
+    def look_method(self, node):
+        if self.methods.count(node.name) > 1 or node.name in self.values():
+            self.fault("L18", node)
+        if node.name == "__init__":
+            if any(isinstance(part, ast.Return) and part.value is not None for part in ast.walk(node)):
+                self.fault("L28", node)
+        elif node.name in DUNDER_METHODS:
+            self.fault("L28", node)
+        elif node.name in VALUE_NAMES and node.name not in OWN_METHODS:
+            self.fault("L26", node)
+        elif not re.fullmatch("[A-Za-z][A-Za-z0-9_]*", node.name):
+            self.fault("L12", node)
+
+    def values(self):
+        return [node.attr for node in ast.walk(self.tree)
+                if isinstance(node, ast.Attribute) and isinstance(node.ctx, ast.Store)]
 
     def look_class(self, node):
         plain = all(isinstance(part, (ast.FunctionDef, ast.Pass)) for part in node.body)
@@ -268,6 +294,11 @@ class Walk:
             self.fault("L24", node)
 
     def look_attribute(self, node):
+        if isinstance(node.ctx, ast.Store):
+            if node.attr in NO_VALUES or node.attr in VALUE_NAMES and node.attr not in OWN_VALUES:
+                self.fault("L26", node)
+            if getattr(node.value, "id", "") in self.taken:
+                self.fault("L18", node)
         if node.attr in UNUSED_NAMES:
             self.fault("L17", node)
         if node.attr.startswith("_") and node.attr not in DUNDER_METHODS:
@@ -311,6 +342,9 @@ FAULTY = [
     ("L15", "from crossbrace.floors import sides\n\n\ndef f(a):\n    return [0 for sides in a]\n"),
     ("L15", "class Desk:\n    pass\n\n\ndef f(a):\n    Desk = a\n    return a\n"),
     ("L17", "# the type of a thing\n"), ("L17", "def f(a):\n    return getattr(a, 'b')\n"),
+    ("L18", "class A:\n    def f(self):\n        return 1\n\n    def f(self):\n        return 2\n"),
+    ("L18", "class A:\n    def f(self):\n        self.f = 1\n"),
+    ("L18", "class A:\n    pass\n\n\ndef f():\n    A.n = 1\n"),
     ("L19", "def f(a):\n    try:\n        return a[0]\n    except Exception:\n        return 0\n"),
     ("L19", "def f(a):\n    raise a\n"), ("L20", "def f(a):\n    return a is 1\n"),
     ("L22", "def f(a):\n    return int(a, base=2)\n"), ("L23", "def f(a):\n    b = zip(a, a)\n    return list(b)\n"),

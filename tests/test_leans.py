@@ -105,8 +105,9 @@ class Stretch(unittest.TestCase):
                 for field in floor[2]:
                     row, column = crossing(floor, field)
                     with self.subTest(floor=floor, lean=lean, field=field):
-                        self.assertEqual(stretch(floor, lean, *bar_ends(floor, field, "rising")), lean[column] - lean[row])
-                        self.assertEqual(stretch(floor, lean, *bar_ends(floor, field, "falling")), lean[row] - lean[column])
+                        rising = stretch(floor, lean, *bar_ends(floor, field, "rising"))
+                        falling = stretch(floor, lean, *bar_ends(floor, field, "falling"))
+                        self.assertEqual((rising, falling), (lean[column] - lean[row], lean[row] - lean[column]))
 
     def test_any_two_corners_by_the_growth_of_their_speeds(self):
         for floor in FLOORS[:9] + [floor_drawn("o.o.o/ooooo/o.o.o")]:

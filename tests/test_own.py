@@ -3,7 +3,9 @@
 import copy
 import unittest
 
-from crossbrace import choices, counts, floors, forces, leans, ropes, spares, strips, taut, ways
+from crossbrace import (choices, counts, desk, floors, forces, leans, poses, ropes, spares, strips, taut, texts,
+                        turned, ways)
+from crossbrace.errors import NoDeed
 from samples import FLOORS, plans, some_leans
 
 
@@ -51,6 +53,30 @@ def calls_of_ropes():
             yield taut.tautness, (floor, braces, hanging, rope)
 
 
+def calls_of_poses():
+    for k in range(-3, 4):
+        yield poses.turned_by, (k,)
+    for floor, braces, hanging in plans(2):
+        turns = [number % 7 - 3 for number in range(len(strips.strips(floor)))]
+        yield poses.pose, (floor, turns)
+        yield poses.unsquare, (floor, braces, turns)
+        yield poses.turns_of, (floor, braces)
+
+
+def calls_of_turned():
+    for floor, braces, hanging in plans(2):
+        yield turned.quarter, (floor,)
+        yield turned.mirrored, (floor,)
+        yield turned.quarter_field, (floor, floor[2][-1])
+        yield turned.mirrored_field, (floor, floor[2][-1])
+        yield turned.quarter_ropes, (floor, hanging)
+        yield turned.mirrored_ropes, (floor, hanging)
+        yield texts.show_plan, ((floor, braces, hanging),)
+        yield texts.read_plan, (texts.show_plan((floor, braces, hanging)),)
+    yield turned.swapped, (3, 2, [0, 1, 2], [0, 1], [0, 1, 5])
+    yield turned.swapped, (3, 2, [2, 0, 1], [1, 0], [0, 1, 5])
+
+
 def calls_of_forces():
     for floor in FLOORS:
         both = [(field, word, field - 9) for field in floor[2] for word in ("falling", "rising")]
@@ -72,7 +98,8 @@ def calls_of_choices():
         yield choices.exchanges, (floor, choice, choice)
 
 
-CALLS = [calls_of_floors, calls_of_braces, calls_of_choices, calls_of_ropes, calls_of_forces]
+CALLS = [calls_of_floors, calls_of_braces, calls_of_choices, calls_of_ropes, calls_of_forces,
+         calls_of_poses, calls_of_turned]
 
 
 def lists_in(thing):
@@ -115,7 +142,25 @@ class Own(unittest.TestCase):
         asked = {function.__name__ for calls in CALLS for function, given in calls()}
         self.assertEqual(asked, set("""floor_of corners corners_at sides strips crossing strip_of leans speeds stretch
             broken slack judged pieces held lean_at lacking weighed loses stripped is_choice cheapest cheaper
-            exchanges how_many restless at_rest pulls_at hung rope_plan tautness all_taut""".split()))
+            exchanges how_many restless at_rest pulls_at hung rope_plan tautness all_taut
+            turned_by pose unsquare turns_of quarter mirrored quarter_field mirrored_field quarter_ropes
+            mirrored_ropes swapped show_plan read_plan""".split()))
+
+    def test_what_a_desk_is_asked_changes_no_other_desk_and_no_plan(self):
+        for plan in plans(1):
+            text = texts.show_plan(plan)
+            read = texts.read_plan(text)
+            one = desk.Desk(text)
+            for row in ("clear", "brace"):
+                for field in plan[0][2]:
+                    try:
+                        one.say(f"{row} {field}")
+                    except NoDeed:
+                        pass
+            self.assertEqual(one.say("lacking"), "none")
+            self.assertEqual(read, plan)
+            self.assertEqual(texts.read_plan(text), plan)
+            self.assertEqual(desk.Desk(text).say("show"), text)
 
 
 if __name__ == "__main__":
